@@ -1,6 +1,15 @@
 """Runs of a program that is cut off and goes on behind its last mark."""
 
-from cutrows.programs import is_kept, read_cells
+from cutrows.programs import is_between, is_kept, read_cells
+
+MOST_PICK = 64
+
+
+def are_picks(value, kept):
+    """Tell whether the value is picks for a cut of a program with so many kept cells."""
+    if not isinstance(value, tuple) or len(value) != kept:
+        return False
+    return all([is_between(pick, 0, MOST_PICK) for pick in value])
 
 
 class Progress:

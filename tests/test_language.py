@@ -111,6 +111,48 @@ class TestLanguage(unittest.TestCase):
                 self.assertTrue(not bound.startswith("__") or bound in DUNDERS, (name, bound))
                 self.assertIsNone(BARRED.fullmatch(bound), (name, bound))
 
+    def test_no_name_inside_is_that_of_an_import_or_a_class(self):
+        for name, tree in trees():
+            taken = {alias.name for node in tree.body if isinstance(node, ast.ImportFrom) for alias in node.names}
+            taken |= {node.name for node in tree.body if isinstance(node, ast.ClassDef)}
+            for node in ast.walk(tree):
+                if isinstance(node, ast.FunctionDef):
+                    inside = [bound for part in node.body + [node.args] for bound in names_bound(part)]
+                    self.assertEqual(taken.intersection(inside), set(), (name, node.name))
+
+    def test_no_two_files_import_from_each_other(self):
+        imports = {
+            name[:-3]: {node.module.split(".")[-1] for node in tree.body if isinstance(node, ast.ImportFrom)}
+            for name, tree in trees()
+        }
+        while imports:
+            free = [name for name, needed in imports.items() if not needed & set(imports)]
+            self.assertTrue(free, imports)
+            imports = {name: needed for name, needed in imports.items() if name not in free}
+
+    def test_is_stands_beside_none_true_and_false(self):
+        for name, tree in trees():
+            for node in ast.walk(tree):
+                if isinstance(node, ast.Compare) and any(isinstance(op, (ast.Is, ast.IsNot)) for op in node.ops):
+                    self.assertIsInstance(node.comparators[0], ast.Constant, (name, node.lineno))
+
+    def test_returns_of_len(self):
+        for name, tree in trees():
+            for node in ast.walk(tree):
+                if isinstance(node, ast.FunctionDef) and node.name == "__len__":
+                    self.assertRegex(ast.unparse(node.body[-1]), r"^return len\(.*\)$", name)
+
+    def test_no_sort_of_a_list_in_place(self):
+        for name, tree in trees():
+            for node in ast.walk(tree):
+                self.assertFalse(isinstance(node, ast.Attribute) and node.attr == "sort", name)
+
+    def test_no_percent_sign_in_strings(self):
+        for name, tree in trees():
+            for node in ast.walk(tree):
+                if isinstance(node, ast.Constant) and isinstance(node.value, str):
+                    self.assertNotIn("%", node.value, (name, node.lineno))
+
     def test_builtins(self):
         for name, tree in trees():
             for node in ast.walk(tree):
