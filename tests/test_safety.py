@@ -9,6 +9,7 @@ from cutrows.machines import Machine
 from cutrows.safety import is_safe, spoiling
 
 import slow
+from replay import cell_of
 from samples import samples, some_item
 
 SHORT = (1, 0, (("do", 0, (0,)), ("send", (0,))))
@@ -49,10 +50,12 @@ UNSAFE = (
 )
 
 
-def all_pairs(program, most):
-    """Each pair of cuts for the program, with picks up to most."""
+def all_pairs(program):
+    """Every pair of cuts for the program, but for picks beyond each list."""
+    written = [cell_of(item) for item in program[2]]
+    picks_of_cells = [range(written.count(cell) + 1) for cell in range(program[0])]
     for count in range(len(program[2]) + 1):
-        for picks in itertools.product(range(most + 1), repeat=program[0]):
+        for picks in itertools.product(*picks_of_cells):
             yield (count, picks)
 
 
@@ -91,7 +94,7 @@ class TestSafety(unittest.TestCase):
         for program in SAFE:
             self.assertIs(is_safe(program=program), True, program)
             self.assertIsNone(spoiling(program=program), program)
-            pairs = list(all_pairs(program, 2)) if len(program[2]) < 5 else list(all_pairs(program, 1))
+            pairs = list(all_pairs(program))
             for cuts in itertools.chain(zip(pairs), itertools.product(pairs, repeat=2)):
                 self.assertIsNone(run_fault(program, cuts), (program, cuts))
 
@@ -146,7 +149,7 @@ class TestSafety(unittest.TestCase):
             if not safe:
                 self.check_spoiling(program)
                 continue
-            pairs = list(all_pairs(program, 2))
+            pairs = list(all_pairs(program))
             some = [tuple(chance.choices(pairs, k=chance.randint(2, 12))) for _ in range(40)]
             for cuts in [(pair,) for pair in pairs] + some:
                 self.assertIsNone(run_fault(program, cuts), (program, cuts))
