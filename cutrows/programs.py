@@ -7,10 +7,24 @@ MOST_LOOSE = 5
 MOST_ITEMS = 64
 
 
+def _is_integer(value):
+    # In Python True is an int, too, but here it is not an integer.
+    return isinstance(value, int) and not isinstance(value, bool)
+
+
 def is_between(value, low, high):
     """Tell whether the value is an integer from low to high."""
-    # In Python True is an int, too, but here it is not an integer.
-    return isinstance(value, int) and not isinstance(value, bool) and low <= value <= high
+    return _is_integer(value) and low <= value <= high
+
+
+def is_index(value, many):
+    """Tell whether the value is one of the numbers from 0 on, of which there are so many."""
+    return is_between(value, 0, many - 1)
+
+
+def is_one_of(value, numbers):
+    """Tell whether the value is an integer and one of these."""
+    return _is_integer(value) and value in numbers
 
 
 def are_cells(value, cells, fewest, most):
@@ -25,26 +39,29 @@ def are_cells(value, cells, fewest, most):
     return True
 
 
-def _is_item(value, cells):
+def is_item(value, cells):
+    """Tell whether the value is an item of a program with so many cells."""
     if not isinstance(value, tuple) or len(value) not in (2, 3):
         return False
     word = value[0]
     if len(value) == 3:
-        return word == "do" and is_between(value[1], 0, cells - 1) and are_cells(value[2], cells, 0, 3)
+        return word == "do" and is_index(value[1], cells) and are_cells(value[2], cells, 0, 3)
     if word == "ask":
-        return is_between(value[1], 0, cells - 1)
+        return is_index(value[1], cells)
     if word == "send":
         return are_cells(value[1], cells, 1, 3)
     return word == "mark" and are_cells(value[1], cells, 0, cells)
 
 
+def are_cell_counts(kept, loose):
+    """Tell whether a program may have so many kept and so many loose cells."""
+    return is_between(kept, 0, MOST_KEPT) and is_between(loose, 0, MOST_LOOSE) and kept + loose > 0
+
+
 def _has_form(value):
-    if not isinstance(value, tuple) or len(value) != 3:
+    if not isinstance(value, tuple) or len(value) != 3 or not are_cell_counts(value[0], value[1]):
         return False
-    kept, loose, items = value
-    if not is_between(kept, 0, MOST_KEPT) or not is_between(loose, 0, MOST_LOOSE) or kept + loose == 0:
-        return False
-    return isinstance(items, tuple) and len(items) <= MOST_ITEMS
+    return isinstance(value[2], tuple) and len(value[2]) <= MOST_ITEMS
 
 
 def require_program(value):
@@ -53,7 +70,7 @@ def require_program(value):
         raise InvalidProgram(None)
     kept, loose, items = value
     for index, item in enumerate(items):
-        if not _is_item(item, kept + loose):
+        if not is_item(item, kept + loose):
             raise InvalidProgram(index)
     return value
 

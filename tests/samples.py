@@ -39,3 +39,24 @@ def samples(seed, many, most_items=10, most_cuts=8):
     for _ in range(many):
         program = some_program(chance, most_items)
         yield program, some_cuts(chance, program, most_cuts)
+
+
+def small_plan_programs(seed, many, most_items=5):
+    """Yield so many programs with few places, most of which send what they have made or asked."""
+    chance = random.Random(seed)
+    for _ in range(many):
+        kept = chance.randint(0, 2)
+        loose = chance.randint(0 if kept else 1, 2)
+        cells = kept + loose
+        items = [some_item(chance, cells) for _ in range(chance.randint(0, most_items))]
+        if kept and chance.random() < 0.7:
+            cell = chance.randrange(kept)
+            others = some_cells(chance, cells, 0, 2)
+            items.insert(chance.randint(0, len(items)), ("do", cell, tuple(sorted({cell, *others}))))
+        if chance.random() < 0.8:
+            items.append(("send", some_cells(chance, cells, 1, 3)))
+        yield (kept, loose, tuple(items))
+
+
+def some_prices(chance):
+    return tuple(chance.choice((0, 1, 2, 7, 99, chance.randint(0, 99))) for _ in range(11))
