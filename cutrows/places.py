@@ -125,9 +125,9 @@ def written_kept(split, start, end):
     return [index for index in range(start, end) if written_cell(split[2][index]) in spoiled]
 
 
-def cut_short(split, end):
-    """Return the program without the items from this position on."""
-    return (split[0], split[1], split[2][:end])
+def cut_short(program, end):
+    """Return the program without its items from this position on."""
+    return (program[0], program[1], program[2][:end])
 
 
 def sent_asks(split, start, end):

@@ -27,15 +27,25 @@ def _cut_that_leaves_another(program, position, cell):
     return (count, _picks_for(program, cell, 0 if left[0] != right else 1))
 
 
+def cuts_for(program, fact):
+    """Return cuts of one pair that lead back to where a first fact with the word wrong is, and make it so.
+
+    Right after them, the cell has another shape than it has there without cuts.
+    """
+    position, _, cell = fact
+    if is_kept(program, cell):
+        return (_cut_that_leaves_another(program, position, cell),)
+    # A loose cell is lost by a cut right at the position.
+    return ((position, (0,) * program[0]),)
+
+
 def spoiling(program):
     """Return cuts of one pair with which the run is not good, or None if the program is safe."""
     bad = _bad_facts(program)
     if not bad:
         return None
-    position, word, cell = lineage(program, bad[0])[0]
-    if word == "wrong" and is_kept(program, cell):
-        return (_cut_that_leaves_another(program, position, cell),)
-    # A loose cell is lost by a cut right at the position. An open answer is asked for once more if
-    # the cut comes behind the send that has shown the first one.
-    count = position if word == "wrong" else bad[0][0] + 1
-    return ((count, (0,) * program[0]),)
+    first = lineage(program, bad[0])[0]
+    if first[1] == "wrong":
+        return cuts_for(program, first)
+    # An open answer is asked for once more if the cut comes behind the send that has shown it.
+    return ((bad[0][0] + 1, (0,) * program[0]),)

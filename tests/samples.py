@@ -1,6 +1,9 @@
 """Programs and cuts for tests, the same ones each time."""
 
+import itertools
 import random
+
+from replay import cell_of
 
 
 def some_cells(chance, cells, fewest, most):
@@ -60,3 +63,47 @@ def small_plan_programs(seed, many, most_items=5):
 
 def some_prices(chance):
     return tuple(chance.choice((0, 1, 2, 7, 99, chance.randint(0, 99))) for _ in range(11))
+
+
+def small_programs(seed, many):
+    """Yield so many programs of at most six items, each of which sends something."""
+    chance = random.Random(seed)
+    for _ in range(many):
+        kept = chance.randint(0, 2)
+        loose = chance.randint(0 if kept else 1, 2)
+        items = [some_item(chance, kept + loose) for _ in range(chance.randint(1, 6))]
+        items.insert(chance.randint(0, len(items)), ("send", (chance.randrange(kept + loose),)))
+        yield (kept, loose, tuple(items))
+
+
+def all_pairs(program):
+    """Every pair of cuts for the program, but for picks beyond each list."""
+    written = [cell_of(item) for item in program[2]]
+    picks_of_cells = [range(written.count(cell) + 1) for cell in range(program[0])]
+    for count in range(len(program[2]) + 1):
+        for picks in itertools.product(*picks_of_cells):
+            yield (count, picks)
+
+
+def all_claims(program, prices):
+    """Yield every claim that is valid for the program, and prices up to one beyond the greatest."""
+    yield ("safe",)
+    for position in range(len(program[2]) + 1):
+        for cell in range(program[0] + program[1]):
+            yield ("sure", position, cell)
+            yield ("matters", position, cell)
+    bare = [item for item in program[2] if item[0] != "mark"]
+    if len(bare) > 16 or program[1] > 4:
+        return
+    stops = [
+        place for place in range(2 * len(bare) + 1)
+        if place % 2 == 0 or is_split(program, bare[place // 2])
+    ]
+    for pair in itertools.combinations(stops, 2):
+        yield ("allowed", *pair)
+    for price in sorted({0, 1, 2, 3, 4, 5, 8, sum(prices), 99999}):
+        yield ("price", price)
+
+
+def is_split(program, item):
+    return item[0] == "do" and item[1] in item[2] and item[1] < program[0]

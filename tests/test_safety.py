@@ -9,8 +9,7 @@ from cutrows.machines import Machine
 from cutrows.safety import is_safe, spoiling
 
 import slow
-from replay import cell_of
-from samples import samples, some_item
+from samples import all_pairs, samples, small_programs
 
 SHORT = (1, 0, (("do", 0, (0,)), ("send", (0,))))
 DO, ASK, SEND, MARK = ("do", 0, ()), ("ask", 0), ("send", (0,)), ("mark", (0,))
@@ -48,26 +47,6 @@ UNSAFE = (
     (1, 1, (("do", 1, (0,)), ("do", 0, (1,)), ("mark", (0, 1)), ("send", (1,)))),
     (1, 1, (("ask", 1), ("do", 0, (1,)), ("mark", (1,)), ("send", (0, 1)))),
 )
-
-
-def all_pairs(program):
-    """Every pair of cuts for the program, but for picks beyond each list."""
-    written = [cell_of(item) for item in program[2]]
-    picks_of_cells = [range(written.count(cell) + 1) for cell in range(program[0])]
-    for count in range(len(program[2]) + 1):
-        for picks in itertools.product(*picks_of_cells):
-            yield (count, picks)
-
-
-def small_programs(seed, many):
-    """Yield so many programs of at most six items, each of which sends something."""
-    chance = random.Random(seed)
-    for _ in range(many):
-        kept = chance.randint(0, 2)
-        loose = chance.randint(0 if kept else 1, 2)
-        items = [some_item(chance, kept + loose) for _ in range(chance.randint(1, 6))]
-        items.insert(chance.randint(0, len(items)), ("send", (chance.randrange(kept + loose),)))
-        yield (kept, loose, tuple(items))
 
 
 class TestSafety(unittest.TestCase):
