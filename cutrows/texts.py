@@ -16,11 +16,11 @@ def _line_of_cells(kept, loose):
 
 
 def _line_of_item(item):
-    if item[0] == "do":
-        return _line(item[:2] + ("from",) + item[2] if item[2] else item[:2])
-    if item[0] == "ask":
-        return _line(item)
-    return _line(item[:1] + item[1])
+    if item[0] in ("send", "mark"):
+        return _line(item[:1] + item[1])
+    if item[0] == "do" and item[2]:
+        return _line(item[:2] + ("from",) + item[2])
+    return _line(item[:2])
 
 
 def _line_of_pair(pair):
@@ -54,8 +54,8 @@ def _numbers(parts, words):
     return tuple([_number(part) for part in parts if part not in words])
 
 
-# Where the words stand, and how the numbers are written, is left open by the reading of a line: what was
-# read is written again instead, and must be the line.
+# The three functions below read a line loosely at first, wherever its words stand and whatever zeros its
+# numbers begin with. Then they write again what they have read: only if this is the line itself, it fits.
 
 
 def _cells_of_line(line):
